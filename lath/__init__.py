@@ -1,0 +1,1 @@
+"""Lath: rows told by few straight pieces."""

@@ -1,0 +1,79 @@
+"""Fractions: tuples (top, bottom) in lowest terms, the bottom from 1 on.
+
+A quotient is a tuple (top, bottom) with a bottom from 1 on that need not be in lowest terms. To bring large
+numbers to lowest terms costs far more than to multiply them; so what is only compared stays a quotient (the
+defs called loose_ tell such ones), and what is told is reduced once. Every fraction is a quotient; order and
+size take any quotients.
+"""
+
+from lath.errors import NoRatio
+
+
+def divisor(one, other):
+    found = abs(one)
+    rest = abs(other)
+    while rest != 0:
+        left = found % rest
+        found = rest
+        rest = left
+    return found
+
+
+def is_fraction(pair):
+    return pair[1] >= 1 and divisor(pair[0], pair[1]) == 1
+
+
+def ratio(top, bottom):
+    if bottom == 0:
+        raise NoRatio("the bottom is nought")
+    shared = divisor(top, bottom)
+    if bottom < 0:
+        shared = -shared
+    return (top // shared, bottom // shared)
+
+
+def reduced(quotient):
+    return ratio(quotient[0], quotient[1])
+
+
+def loose_plus(one, other):
+    return (one[0] * other[1] + other[0] * one[1], one[1] * other[1])
+
+
+def loose_minus(one, other):
+    return (one[0] * other[1] - other[0] * one[1], one[1] * other[1])
+
+
+def loose_times(one, other):
+    return (one[0] * other[0], one[1] * other[1])
+
+
+def plus(one, other):
+    return reduced(loose_plus(one, other))
+
+
+def minus(one, other):
+    return reduced(loose_minus(one, other))
+
+
+def times(one, other):
+    return reduced(loose_times(one, other))
+
+
+def over(one, other):
+    # Where the second one is nought the new bottom is 0, and ratio refuses it.
+    return ratio(one[0] * other[1], one[1] * other[0])
+
+
+def order(one, other):
+    left = one[0] * other[1]
+    right = other[0] * one[1]
+    if left < right:
+        return -1
+    if left > right:
+        return 1
+    return 0
+
+
+def size(one):
+    return (abs(one[0]), one[1])
