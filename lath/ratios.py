@@ -77,3 +77,19 @@ def order(one, other):
 
 def size(one):
     return (abs(one[0]), one[1])
+
+
+def greatest(quotients):
+    found = quotients[0]
+    for quotient in quotients:
+        if order(quotient, found) > 0:
+            found = quotient
+    return found
+
+
+def smallest(quotients):
+    found = quotients[0]
+    for quotient in quotients:
+        if order(quotient, found) < 0:
+            found = quotient
+    return found

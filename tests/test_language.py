@@ -12,7 +12,7 @@ NODES = """
 Module FunctionDef ClassDef arguments arg Return Assign AugAssign For While If Raise Try ExceptHandler
 ImportFrom alias Expr Pass Break Continue BoolOp And Or BinOp UnaryOp Not USub UAdd Invert Lambda IfExp
 Dict List Tuple Set ListComp comprehension Compare Call JoinedStr FormattedValue Constant Attribute
-Subscript Slice Name Load Store Add Sub Mult FloorDiv Mod Pow LShift RShift BitOr BitXor BitAnd
+Subscript Slice keyword Name Load Store Add Sub Mult FloorDiv Mod Pow LShift RShift BitOr BitXor BitAnd
 Eq NotEq Lt LtE Gt GtE Is IsNot In NotIn
 """.split()
 
@@ -40,6 +40,15 @@ WORDS = re.compile(
     r"\b(type|typing|typing_extensions|enum|Enum|IntEnum|StrEnum|Flag|IntFlag|Generic|Protocol|ABC|ABCMeta"
     r"|namedtuple|NamedTuple|TypedDict|TYPE_CHECKING|abstractmethod)\b|dataclass|overload|contextmanager"
 )
+
+KEYWORDS = {
+    "sorted": ["key", "reverse"], "min": ["key", "default"], "max": ["key", "default"],
+    "sum": ["start"], "enumerate": ["start"], "zip": ["strict"],
+}
+
+WALKED = ("zip", "enumerate", "reversed", "range")
+
+WALKERS = ("list", "tuple", "dict", "sorted", "sum", "any", "all", "enumerate", "zip", "min", "max")
 
 OUT_OF_TEXTS = ("chr(", "2 ** ")
 
@@ -144,6 +153,29 @@ def statement_faults(node):
     return faults
 
 
+def called_name(node):
+    return node.func.id if isinstance(node, ast.Call) and isinstance(node.func, ast.Name) else None
+
+
+def call_faults(tree):
+    faults = []
+    walked = []
+    for node in ast.walk(tree):
+        name = called_name(node)
+        if isinstance(node, (ast.For, ast.comprehension)):
+            walked.append(node.iter)
+        if name in WALKERS and node.args:
+            if name not in ("min", "max") or len(node.args) + len(node.keywords) == 1:
+                walked.append(node.args[0])
+        if name in BUILT_IN:
+            given = [keyword.arg for keyword in node.keywords]
+            faults += ["L22 keyword at " + name for word in given if word not in KEYWORDS.get(name, [])]
+    for node in ast.walk(tree):
+        if called_name(node) in WALKED and not any(node is other for other in walked):
+            faults.append("L23 " + called_name(node))
+    return faults
+
+
 def stored_names(tree):
     for node in ast.walk(tree):
         if isinstance(node, ast.arg):
@@ -153,7 +185,7 @@ def stored_names(tree):
 
 
 def tree_faults(tree):
-    faults = top_faults(tree)
+    faults = top_faults(tree) + call_faults(tree)
     forbidden = imported(tree) + own_classes(tree) + dir(builtins)
     faults += ["L15 local " + name for name in stored_names(tree) if name in forbidden]
     for node in ast.walk(tree):
@@ -236,6 +268,8 @@ class TestLanguage(unittest.TestCase):
             "class A:\n    b = 1", "def f(len):\n    pass", "def f():\n    return {x for x in ()}",
             "def f(x):\n    return x is 3", "def _f():\n    pass", "a = 1\na = 2", "def f(x):\n    yield x",
             "def f(x):\n    assert x", "def f(x):\n    return map(x)", "def f(x):\n    '''Why'''",
+            "def f(x):\n    return max(range(x), key=f)", "def f(x):\n    y = zip(x, x)",
+            "def f(x):\n    return int(x, base=8)",
         ]
         for text in wrong:
             self.assertNotEqual(tree_faults(ast.parse(text)), [], text)

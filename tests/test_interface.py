@@ -1,0 +1,44 @@
+import importlib
+import inspect
+import unittest
+
+DEFS = {
+    "lath.ratios": [
+        "ratio(top, bottom)", "plus(one, other)", "minus(one, other)", "times(one, other)", "over(one, other)",
+        "order(one, other)", "size(one)",
+    ],
+    "lath.rows": ["checked(row)", "runs(row)", "all_samples(row)", "tilted(row, slope, height)", "turned(row)"],
+    "lath.lines": [
+        "slope(one, other)", "line_by(steep, sample)", "height(line, when)", "off(line, sample)",
+        "meet(line, other)",
+    ],
+    "lath.threes": ["stand(one, mid, last)", "kind(one, mid, last)", "pinched(one, mid, last, bound)"],
+    "lath.best": ["worst_off(line, samples)", "best(samples)"],
+    "lath.stretches": ["Stretch(bound)", "stretches(samples, bound)"],
+    "lath.errors": ["NotARow(at)", "NoLine(at)"],
+}
+
+METHODS = {
+    ("lath.stretches", "Stretch"): ["takes(self, sample)", "kept(self)", "slopes(self)", "room(self, moment)"],
+}
+
+
+def shown(holder, written):
+    name = written.partition("(")[0]
+    return name + str(inspect.signature(getattr(holder, name)))
+
+
+class TestInterface(unittest.TestCase):
+    def test_defs_and_their_arguments(self):
+        for module, defs in DEFS.items():
+            for written in defs:
+                self.assertEqual(shown(importlib.import_module(module), written), written, module)
+
+    def test_methods_and_their_arguments(self):
+        for (module, name), methods in METHODS.items():
+            for written in methods:
+                self.assertEqual(shown(getattr(importlib.import_module(module), name), written), written, name)
+
+
+if __name__ == "__main__":
+    unittest.main()
