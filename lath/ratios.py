@@ -8,15 +8,51 @@ size take any quotients.
 
 from lath.errors import NoRatio
 
+HEAD = 256
 
-def divisor(one, other):
-    found = abs(one)
-    rest = abs(other)
+
+def plain_divisor(one, other):
+    found = one
+    rest = other
     while rest != 0:
         left = found % rest
         found = rest
         rest = left
     return found
+
+
+def steps_of_heads(high, low):
+    # The steps of Euclid's way with two numbers of at most HEAD bits, put together: the four factors with which
+    # the last two numbers come from these two. It stops half way, where the heads still tell the steps well.
+    ahead = (1, 0)
+    now = (0, 1)
+    while low.bit_length() > HEAD // 2:
+        many = high // low
+        left = high - many * low
+        high = low
+        low = left
+        behind = (ahead[0] - many * now[0], ahead[1] - many * now[1])
+        ahead = now
+        now = behind
+    return ahead + now
+
+
+def divisor(one, other):
+    # Of large numbers the heads alone are looked at for many steps, and the numbers are then brought to where
+    # these lead at once. Each step takes one number some times from the other, so whichever steps the heads
+    # tell, the same numbers divide both behind them as ahead.
+    found = max(abs(one), abs(other))
+    rest = min(abs(one), abs(other))
+    while rest.bit_length() > HEAD:
+        tail = found.bit_length() - HEAD
+        steps = steps_of_heads(found >> tail, rest >> tail)
+        if steps[1] == 0:
+            steps = (0, 1, 1, -(found // rest))
+        ahead = abs(steps[0] * found + steps[1] * rest)
+        now = abs(steps[2] * found + steps[3] * rest)
+        found = max(ahead, now)
+        rest = min(ahead, now)
+    return plain_divisor(found, rest)
 
 
 def is_fraction(pair):

@@ -4,13 +4,30 @@ from lath.lines import loose_along, loose_slope
 from lath.ratios import greatest, loose_minus, loose_plus, order, plus, reduced, smallest
 
 
-class Stretch:
-    # A line bears the samples where it lies nowhere below a value less the bound nor above a value plus the
-    # bound. There is one of some slope just where no two samples forbid that slope: it must lead from the
-    # earlier one's high end up to the later one's low end or higher, and from the earlier one's low end up to
-    # the later one's high end or lower. These two are the slopes from the earlier sample itself to the later
-    # one lowered, or raised, by twice the bound.
+# A line bears the samples where it lies nowhere below a value less the bound nor above a value plus the bound.
+# There is one of some slope just where no two samples forbid that slope: it must lead from the earlier one's
+# high end up to the later one's low end or higher, and from the earlier one's low end up to the later one's high
+# end or lower. These two are the slopes from the earlier sample itself to the later one lowered, or raised, by
+# twice the bound. (The known one of the two is that of the samples so far, None where none is forbidden yet.)
 
+
+def gentlest_with(known, earlier, sample, twice):
+    lowered = (sample[0], loose_minus(sample[1], twice))
+    found = [loose_slope(one, lowered) for one in earlier]
+    if known is not None:
+        found.append(known)
+    return greatest(found) if len(found) > 0 else None
+
+
+def steepest_with(known, earlier, sample, twice):
+    raised = (sample[0], loose_plus(sample[1], twice))
+    found = [loose_slope(one, raised) for one in earlier]
+    if known is not None:
+        found.append(known)
+    return smallest(found) if len(found) > 0 else None
+
+
+class Stretch:
     def __init__(self, bound):
         self.twice = plus(bound, bound)
         self.samples = []
@@ -18,25 +35,14 @@ class Stretch:
         self.steepest = None
 
     def takes(self, sample):
-        if len(self.samples) > 0:
-            gentlest = self.gentlest_with(sample)
-            steepest = self.steepest_with(sample)
-            if order(gentlest, steepest) > 0:
-                return False
-            self.gentlest = gentlest
-            self.steepest = steepest
+        gentlest = gentlest_with(self.gentlest, self.samples, sample, self.twice)
+        steepest = steepest_with(self.steepest, self.samples, sample, self.twice)
+        if len(self.samples) > 0 and order(gentlest, steepest) > 0:
+            return False
+        self.gentlest = gentlest
+        self.steepest = steepest
         self.samples.append(sample)
         return True
-
-    def gentlest_with(self, sample):
-        lowered = (sample[0], loose_minus(sample[1], self.twice))
-        found = greatest([loose_slope(earlier, lowered) for earlier in self.samples])
-        return found if self.gentlest is None else greatest([self.gentlest, found])
-
-    def steepest_with(self, sample):
-        raised = (sample[0], loose_plus(sample[1], self.twice))
-        found = smallest([loose_slope(earlier, raised) for earlier in self.samples])
-        return found if self.steepest is None else smallest([self.steepest, found])
 
     def kept(self):
         return list(self.samples)

@@ -15,11 +15,16 @@ DEFS = {
     "lath.threes": ["stand(one, mid, last)", "kind(one, mid, last)", "pinched(one, mid, last, bound)"],
     "lath.best": ["worst_off(line, samples)", "best(samples)"],
     "lath.stretches": ["Stretch(bound)", "stretches(samples, bound)"],
+    "lath.apart": ["apart(row, bound)"],
+    "lath.bends": ["Bend(bound)"],
+    "lath.joined": ["joined(row, bound)"],
+    "lath.chords": ["farthest(samples, first, last)", "labels(samples, bound, tied)", "bars(samples, bound, tied)"],
     "lath.errors": ["NotARow(at)", "NoLine(at)"],
 }
 
 METHODS = {
     ("lath.stretches", "Stretch"): ["takes(self, sample)", "kept(self)", "slopes(self)", "room(self, moment)"],
+    ("lath.bends", "Bend"): ["take(self, sample)", "line_now(self)", "room(self, moment)"],
 }
 
 

@@ -48,6 +48,19 @@ class TestRatio(unittest.TestCase):
             self.assertTrue(is_lowest(told))
             self.assertEqual(told, pair(Fraction(top, bottom)))
 
+    def test_large_numbers_of_every_make(self):
+        source = seeded(7)
+        neighbours = (0, 1)
+        for _ in range(3000):
+            neighbours = (neighbours[1], neighbours[0] + neighbours[1])
+        tried = [neighbours, (neighbours[0] * 77, neighbours[1] * 77), (2 ** 900, 2 ** 300 + 1), (2 ** 900, 2 ** 900)]
+        for _ in range(300):
+            top, bottom, shared = [source.randrange(1, 2 ** source.randint(1, 3000)) for _ in range(3)]
+            tried += [(top, bottom), (-top * shared, bottom * shared), (top, top + source.randint(1, 3))]
+            tried += [(shared * top, shared), (bottom, -(bottom >> 250) - 1)]
+        for top, bottom in tried:
+            self.assertEqual(ratio(top, bottom), pair(Fraction(top, bottom)))
+
     def test_bottom_nought_is_refused_and_a_good_one_taken_behind(self):
         for top in (0, 1, -6, HUGE):
             with self.assertRaises(NoRatio) as caught:

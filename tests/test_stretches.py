@@ -2,19 +2,13 @@ import unittest
 from fractions import Fraction
 from itertools import combinations
 
-from helper import is_lowest, number, pair, sample, samples_of, seeded, some_fraction, some_samples
+from helper import is_borne, is_lowest, number, pair, sample, samples_of, seeded, some_fraction, some_samples
 from lath.best import best
 from lath.stretches import Stretch, stretches
-from lath.threes import pinched
 
 HUGE = 10 ** 300 + 7
 HAIR = Fraction(1, 10 ** 200)
 SOME_BOUNDS = [Fraction(0), Fraction(1, 3), Fraction(1), Fraction(5, 2), Fraction(4)]
-
-
-def is_borne(samples, bound):
-    """By the threes alone: some line bears the samples where none of their threes is pinched."""
-    return not any(pinched(*three, bound) for three in combinations(samples, 3))
 
 
 def bearing_corners(samples, bound):
