@@ -19,6 +19,9 @@ DEFS = {
     "lath.bends": ["Bend(bound)"],
     "lath.joined": ["joined(row, bound)"],
     "lath.chords": ["farthest(samples, first, last)", "labels(samples, bound, tied)", "bars(samples, bound, tied)"],
+    "lath.tied": ["spans(row, bound)", "chain(row, bound)"],
+    "lath.tell": ["fewest(row, way, bound)", "many(row, way, bound)"],
+    "lath.judge": ["miss(row, way, telling)", "fits(row, way, bound, telling)"],
     "lath.errors": ["NotARow(at)", "NoLine(at)"],
 }
 
