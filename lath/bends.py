@@ -1,7 +1,7 @@
 """Links: the lines that the pieces of one run lie along when they hang together, found from the left."""
 
 from lath.lines import line_by, loose_along, loose_off
-from lath.ratios import greatest, loose_minus, loose_plus, order, plus, reduced, smallest
+from lath.ratios import greatest, loose_minus, loose_plus, opposite, order, plus, reduced, smallest
 from lath.stretches import gentlest_with, steepest_with
 
 
@@ -11,10 +11,6 @@ def is_steeper(one, other):
 
 def touched(samples, line, lift):
     return [sample for sample in samples if order(loose_off(line, sample), lift) == 0]
-
-
-def opposite(one):
-    return (-one[0], one[1])
 
 
 class Bend:

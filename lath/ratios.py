@@ -115,6 +115,10 @@ def size(one):
     return (abs(one[0]), one[1])
 
 
+def opposite(one):
+    return (-one[0], one[1])
+
+
 def greatest(quotients):
     found = quotients[0]
     for quotient in quotients:

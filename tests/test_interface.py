@@ -22,12 +22,21 @@ DEFS = {
     "lath.tied": ["spans(row, bound)", "chain(row, bound)"],
     "lath.tell": ["fewest(row, way, bound)", "many(row, way, bound)"],
     "lath.judge": ["miss(row, way, telling)", "fits(row, way, bound, telling)"],
+    "lath.papers": ["shows(row, way, bound, number, paper, at=False)"],
+    "lath.least": ["least(row, way, most)"],
+    "lath.certain": ["sure(row, way, bound, moment)", "few(row, way, bound, moment)"],
+    "lath.keeper": ["Keeper(way, bound)"],
     "lath.errors": ["NotARow(at)", "NoLine(at)"],
 }
 
 METHODS = {
     ("lath.stretches", "Stretch"): ["takes(self, sample)", "kept(self)", "slopes(self)", "room(self, moment)"],
     ("lath.bends", "Bend"): ["take(self, sample)", "line_now(self)", "room(self, moment)"],
+    ("lath.keeper", "Keeper"): [
+        "put(self, moment, top, bottom=1)", "gap(self, moment)", "mend(self, moment, top, bottom=1)",
+        "strike(self, moment)", "settle(self, moment)", "close(self)", "row(self)", "told(self)", "paper(self)",
+        "many(self)", "least(self, most)", "settled(self)", "closed(self)", "sure(self)", "few(self)",
+    ],
 }
 
 
