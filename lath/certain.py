@@ -21,9 +21,8 @@ def certain_of_run(run, way, bound):
     if way == "spans" or way == "chain":
         return []
     pieces = told_by(run, way, bound)[0]
-    # The last stretch, or link, is still under way; and where a link ends that meets it is not known either.
-    open_ones = 1 if way == "apart" else 2
-    return pieces[:max(0, len(pieces) - open_ones)]
+    # The last stretch, or link, is still under way; and where the piece ends that meets it is not known either.
+    return pieces[:-1] if way == "apart" else pieces[:-2]
 
 
 def sure(row, way, bound, moment):
@@ -32,12 +31,10 @@ def sure(row, way, bound, moment):
 
 
 def slope_through(samples, bound):
-    # The gentlest slope of the lines from the first sample on that bear all behind it, or None.
+    # The gentlest slope of the lines from the first sample on that bear all behind it (one at least), or None.
     start = samples[0]
     lows = [loose_slope(start, (one[0], loose_minus(one[1], bound))) for one in samples[1:]]
     highs = [loose_slope(start, (one[0], loose_plus(one[1], bound))) for one in samples[1:]]
-    if len(lows) == 0:
-        return (0, 1)
     return greatest(lows) if order(greatest(lows), smallest(highs)) <= 0 else None
 
 
@@ -47,7 +44,7 @@ def spared(run, way, bound, moment):
     tied = way == "chain"
     told = labels(run, bound, tied)
     found = (max(1, told[-1]), None)
-    for place in range(len(run)):
+    for place in range(len(run) - 1):
         steep = slope_through(run[place:], bound)
         if steep is not None and told[place] + 1 < found[0]:
             value = reduced(loose_along(steep, run[place], moment + 1))

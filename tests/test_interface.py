@@ -26,6 +26,15 @@ DEFS = {
     "lath.least": ["least(row, way, most)"],
     "lath.certain": ["sure(row, way, bound, moment)", "few(row, way, bound, moment)"],
     "lath.keeper": ["Keeper(way, bound)"],
+    "lath.rules": ["answer(rule, row)", "parting(rule, other)"],
+    "lath.words": [
+        "whole_word(number)", "ratio_word(one)", "read_whole(word, figures=18)", "read_ratio(word, figures=18)",
+    ],
+    "lath.texts": [
+        "show_row(row)", "show_telling(telling)", "show_paper(way, paper)", "read_row(lines)", "read_telling(lines)",
+        "read_paper(way, lines)",
+    ],
+    "lath.desk": ["Desk()"],
     "lath.errors": ["NotARow(at)", "NoLine(at)"],
 }
 
@@ -37,6 +46,7 @@ METHODS = {
         "strike(self, moment)", "settle(self, moment)", "close(self)", "row(self)", "told(self)", "paper(self)",
         "many(self)", "least(self, most)", "settled(self)", "closed(self)", "sure(self)", "few(self)",
     ],
+    ("lath.desk", "Desk"): ["say(self, line)"],
 }
 
 

@@ -83,8 +83,18 @@ def own_classes(tree):
     return [node.name for node in tree.body if isinstance(node, ast.ClassDef)]
 
 
+def is_plain(value):
+    if isinstance(value, (ast.Tuple, ast.List)):
+        return all(is_plain(part) for part in value.elts)
+    if isinstance(value, ast.Dict):
+        return all(is_plain(part) for part in value.keys + value.values)
+    if isinstance(value, ast.UnaryOp):
+        return isinstance(value.op, ast.USub) and isinstance(value.operand, ast.Constant)
+    return isinstance(value, (ast.Constant, ast.Name))
+
+
 def top_faults(tree):
-    faults = []
+    faults = ["L3 no plain value" for node in tree.body if isinstance(node, ast.Assign) and not is_plain(node.value)]
     bound = imported(tree) + made_at_the_top(tree)
     for place, node in enumerate(tree.body):
         if isinstance(node, ast.Expr):
@@ -269,7 +279,7 @@ class TestLanguage(unittest.TestCase):
             "def f(x):\n    return x is 3", "def _f():\n    pass", "a = 1\na = 2", "def f(x):\n    yield x",
             "def f(x):\n    assert x", "def f(x):\n    return map(x)", "def f(x):\n    '''Why'''",
             "def f(x):\n    return max(range(x), key=f)", "def f(x):\n    y = zip(x, x)",
-            "def f(x):\n    return int(x, base=8)",
+            "def f(x):\n    return int(x, base=8)", "a = 10 ** 3", "a = list()",
         ]
         for text in wrong:
             self.assertNotEqual(tree_faults(ast.parse(text)), [], text)

@@ -1,6 +1,6 @@
 import unittest
 from fractions import Fraction
-from itertools import combinations
+from itertools import combinations, product
 
 from helper import (
     FEWEST, is_lowest, number, pair, sample, samples_of, seeded, some_fraction, some_row, some_samples, stand_of,
@@ -97,6 +97,12 @@ class TestLeast(LeastCase):
             for way in WAYS:
                 for most in range(len(runs(row)), len(runs(row)) + 2):
                     self.assertEqual(self.look_at(row, way, most), awaited_worst(row, way, most), (row, way, most))
+
+    def test_all_rows_of_small_numbers(self):
+        for values in product(range(3), repeat=5):
+            for way in WAYS:
+                for most in (1, 2, 3):
+                    self.look_at(samples_of(values), way, most)
 
     def test_longer_rows(self):
         source = seeded(113)
